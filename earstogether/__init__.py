@@ -1,0 +1,1 @@
+"""Earstogether: what many ears tell together, exactly."""
