@@ -3,11 +3,16 @@
 from math import gcd
 
 from earstogether.kinds import NOTHING
+from earstogether.modular import inverse_of
 from earstogether.packing import packed, unpacked
 from earstogether.wholes import plain_parts, primitive, reduced, row_of_wholes, trimmed
 
 # With fewer bits two numbers often have something in common by chance.
 FEWEST_BITS = 8
+
+# Shorter lists are divided at once; of longer ones it is first asked modulo a prime, 2 to the power of 61 less 1.
+LONG = 64
+PRIME = 2305843009213693951
 
 
 def row_division(row, by):
@@ -31,7 +36,7 @@ def whole_division(wholes, by):
     left as it was.
     """
     rest, scale, last = list(wholes), 1, len(by) - 1
-    lower = [(k, number) for k, number in enumerate(by[:last]) if number != 0]
+    lower = lower_numbers(by)
     many = len(wholes) - last
     quotient = [(0, 1)] * many
     for at in reversed(range(many)):
@@ -55,18 +60,52 @@ def goes_into(by, wholes):
 
     (As by has no common divisor, they are not by times fractions otherwise.)
     """
-    if wholes[0] % by[0] != 0:
-        return False
-    rest, last = list(wholes), len(by) - 1
-    lower = [(k, number) for k, number in enumerate(by[:last]) if number != 0]
-    for at in reversed(range(len(wholes) - last)):
+    return whole_quotient(wholes, by) is not None
+
+
+def whole_quotient(wholes, by):
+    """The list of whole numbers that by times it is wholes; None if there is none."""
+    last = len(by) - 1
+    if len(wholes) <= last or wholes[0] % by[0] != 0:
+        return None
+    if len(wholes) > LONG and not may_go_into(by, wholes):
+        return None
+    rest, quotient = list(wholes), [0] * (len(wholes) - last)
+    lower = lower_numbers(by)
+    for at in reversed(range(len(quotient))):
         times, left = divmod(rest[at + last], by[last])
         if left != 0:
-            return False
+            return None
+        if times != 0:
+            quotient[at] = times
+            for k, number in lower:
+                rest[at + k] -= times * number
+    return quotient if not any(rest[:last]) else None
+
+
+def lower_numbers(by):
+    """The numbers of a list that are not 0, but for its last one, with their places."""
+    return [(k, number) for k, number in enumerate(by[:-1]) if number != 0]
+
+
+def may_go_into(by, wholes):
+    """Whether a division leaves no rest modulo a prime: then it may leave none at all.
+
+    Where it leaves one, this is told without the great numbers to which rests
+    of long lists can grow.
+    """
+    last = len(by) - 1
+    if by[last] % PRIME == 0:
+        return True
+    by_top = inverse_of(by[last], PRIME)
+    lower = [(k, number * by_top % PRIME) for k, number in lower_numbers(by)]
+    rest = [number % PRIME for number in wholes]
+    for at in reversed(range(len(wholes) - last)):
+        times = rest[at + last] % PRIME
         if times != 0:
             for k, number in lower:
                 rest[at + k] -= times * number
-    return not any(rest[:last])
+    return not any([number % PRIME for number in rest[:last]])
 
 
 def row_is_multiple(row, by):

@@ -1,4 +1,4 @@
-"""What is an integer, a FRACTION, a ROW."""
+"""What is an integer, a FRACTION, a ROW, an ascending sequence."""
 
 from math import gcd
 
@@ -40,3 +40,8 @@ def are_rows(value):
 def check_row(value):
     if not is_row(value):
         raise BadRow(value)
+
+
+def is_ascending(values):
+    """Whether each of these strings, or of these integers, is above the one ahead of it."""
+    return all([values[k - 1] < values[k] for k in range(1, len(values))])

@@ -32,6 +32,87 @@ def product_of(one, other):
     return row_from(table)
 
 
+def difference_of(one, other):
+    return sum_of(one, product_of(other, whole_row(0, -1)))
+
+
+def later(row, by):
+    return row_from({moment + by: worth for moment, worth in numbers(row).items()})
+
+
+def total_of(rows):
+    total = (0, ())
+    for row in rows:
+        total = sum_of(total, row)
+    return total
+
+
+def come_to(lines, rows):
+    """What the lines of a MATRIX and ROWS, one for each column, come to."""
+    return tuple([total_of([product_of(one, row) for one, row in zip(line, rows)]) for line in lines])
+
+
+def columns_of(lines):
+    return tuple(zip(*lines))
+
+
+def goes_into(by, row):
+    """Whether row is a multiple of by, reckoned slowly."""
+    if not by[1] or not row[1]:
+        return not row[1]
+    return not rest_slowly([Fraction(*worth) for worth in row[1]], [Fraction(*worth) for worth in by[1]])
+
+
+def rest_slowly(one, by):
+    """The rest of a division of lists of Fractions, without noughts at its end."""
+    one = list(one)
+    while len(one) >= len(by):
+        times_by = one[-1] / by[-1]
+        for k in range(1, len(by) + 1):
+            one[-k] -= times_by * by[-k]
+        one.pop()
+    while one and one[-1] == 0:
+        one.pop()
+    return one
+
+
+PRIME = 2 ** 61 - 1
+
+
+def value_at(row, point):
+    """The sum of the worths, each times point to the power of its moment, modulo a great prime."""
+    total = 0
+    for moment, worth in numbers(row).items():
+        total += worth.numerator * pow(worth.denominator, -1, PRIME) * pow(point, moment, PRIME)
+    return total % PRIME
+
+
+def brought_down(lines, point):
+    """(lines in which each has the first number alone, determinant or 0), of what lines of ROWS are at this point."""
+    lines = [[value_at(row, point) for row in line] for line in lines]
+    done, determinant = [], 1
+    for place in range(len(lines[0]) if lines else 0):
+        at = next((k for k, line in enumerate(lines) if line[place]), None)
+        if at is None:
+            determinant = 0
+            continue
+        top = lines.pop(at)
+        determinant = determinant * top[place] * (-1) ** at % PRIME
+        by = pow(top[place], -1, PRIME)
+        lines = [[(n - line[place] * by * m) % PRIME for n, m in zip(line, top)] for line in lines]
+        done.append(top)
+    return done, determinant if not lines else 0
+
+
+def rank_at(lines, point=987654321987):
+    """The rank that lines of ROWS have at a point where it is hardly ever less than it is."""
+    return len(brought_down(lines, point)[0])
+
+
+def determinant_at(lines, point):
+    return brought_down(lines, point)[1]
+
+
 def whole_row(first, *worths):
     """The ROW with these integers or Fractions from first on."""
     return row_from({first + k: Fraction(worth) for k, worth in enumerate(worths)})
@@ -81,12 +162,51 @@ NO_ROWS = (
 ) + tuple([(0, ((1, 1), wrong, (1, 1))) for wrong in NO_FRACTIONS]) + tuple([(0, (wrong,)) for wrong in NO_FRACTIONS])
 
 
-def assert_refused(test, error, value, look, *arguments, **named):
+def deep(kind):
+    """Tuples, or lists, 60 deep."""
+    out = kind()
+    for _ in range(59):
+        out = kind([out])
+    return out
+
+
+def wrong_tuples(rows):
+    """What isn't a tuple of just so many ROWS as rows, though near it."""
+    out = [None, True, 0, "", "-", (), [], {}, Thing(), list(rows), rows[:-1], (*rows, (0, ())), (rows,), rows[0], [rows]]
+    out += [deep(tuple), deep(list), (deep(tuple),) * len(rows), (deep(list),) * len(rows), rows[:-1] + ((0, deep(tuple)),)]
+    for wrong in NO_ROWS:
+        out += [(wrong, *rows[1:]), (*rows[:-1], wrong)]
+    return out
+
+
+def assert_refused(test, error, value, look, /, *arguments, **named):
     """That look raises just this error, with the very value."""
     try:
         told = look(*arguments, **named)
     except ValueError as caught:
-        test.assertIs(type(caught), error, (look.__name__, arguments))
-        test.assertIs(caught.value, value, (look.__name__, arguments))
+        test.assertIs(type(caught), error, (look.__name__, arguments, named))
+        test.assertIs(caught.value, value, (look.__name__, arguments, named))
     else:
-        test.fail((look.__name__, arguments, told))
+        test.fail((look.__name__, arguments, named, told))
+
+
+def assert_refusals(test, look, right, wrong):
+    """That look, by position and by name, refuses each wrong value, and of several the first that is listed.
+
+    right has a right value for each parameter, in their sequence; wrong pairs
+    (error, values) for those that can be wrong.
+    """
+    look(*right.values())
+    look(**right)
+    names = list(right)
+    for at, name in enumerate(names):
+        error, values = wrong.get(name, (None, ()))
+        for k, value in enumerate(values):
+            given = {**right, name: value}
+            assert_refused(test, error, value, look, *given.values())
+            assert_refused(test, error, value, look, **dict(reversed(list(given.items()))))
+            for behind in names[at + 1:]:
+                others = wrong.get(behind, (None, [None]))[1]
+                given[behind] = others[k % len(others)]
+            assert_refused(test, error, value, look, *given.values())
+            assert_refused(test, error, value, look, **dict(reversed(list(given.items()))))

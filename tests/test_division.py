@@ -9,8 +9,8 @@ from earstogether.division import common, divided, is_multiple, plain
 from earstogether.errors import BadRow, BadRows, ByNothing
 from earstogether.rows import plus, scaled, shifted, spread, times
 from tests.support import (
-    NO_ROWS, Thing, assert_refused, is_in_form, numbers, product_of, random_row, random_something, row_from, sum_of,
-    whole_row,
+    NO_ROWS, Thing, assert_refused, is_in_form, numbers, product_of, random_row, random_something, rest_slowly, row_from,
+    sum_of, whole_row,
 )
 
 NOTHING = (0, ())
@@ -35,18 +35,6 @@ def common_slowly(rows):
         shared = gcd(shared, int(number * bottom))
     sign = 1 if found[0] > 0 else -1
     return whole_row(0, *[sign * int(number * bottom) // shared for number in found])
-
-
-def rest_slowly(one, by):
-    one = list(one)
-    while len(one) >= len(by):
-        times_by = one[-1] / by[-1]
-        for k in range(1, len(by) + 1):
-            one[-k] -= times_by * by[-k]
-        one.pop()
-    while one and one[-1] == 0:
-        one.pop()
-    return one
 
 
 class DividedTest(unittest.TestCase):
@@ -210,6 +198,21 @@ class IsMultipleTest(unittest.TestCase):
 
     def test_by_name(self):
         self.assertIs(is_multiple(by=whole_row(0, 1, 1), row=whole_row(0, 1, 0, -1)), True)
+
+    def test_long_rows(self):
+        source = random.Random(17)
+        prime = 2 ** 61 - 1
+        wide = whole_row(-9, *[source.randint(1, 9) for _ in range(300)])
+        for by in (whole_row(0, 3, prime), whole_row(0, prime, 3), whole_row(2, 1, prime, 5), whole_row(0, 5, 7, -3 * prime)):
+            self.assertIs(is_multiple(product_of(wide, by), by), True)
+            self.assertIs(is_multiple(sum_of(product_of(wide, by), whole_row(40, prime)), by), False)
+            self.assertIs(is_multiple(sum_of(product_of(wide, by), whole_row(-9, 1)), by), False)
+
+    def test_far_apart(self):
+        far, by = (0, ((1, 1),) + ((0, 1),) * 69999 + ((1, 1),)), whole_row(0, 1, -1, -1)
+        self.assertIs(is_multiple(far, by), False)
+        self.assertIs(is_multiple(times(far, by), by), True)
+        self.assertIs(is_multiple(times(far, by), far), True)
 
 
 class PlainTest(unittest.TestCase):

@@ -1,7 +1,10 @@
-"""The examples of the document, as they are written there."""
+"""The examples of the document, as they are written there, and those of README.md."""
 
 import doctest
+import os
 import unittest
+
+README = os.path.join(os.path.dirname(os.path.dirname(os.path.abspath(__file__))), "README.md")
 
 
 class ExamplesTest(unittest.TestCase):
@@ -13,8 +16,21 @@ class ExamplesTest(unittest.TestCase):
     def test_rows(self):
         self.check("section_4.txt", 8)
 
-    def test_division_without_factors(self):
-        self.check("section_5.txt", 7)
+    def test_division_and_factors(self):
+        self.check("section_5.txt", 11)
+
+    def test_arrays(self):
+        self.check("section_6.txt", 10)
+
+    def test_matrices(self):
+        self.check("section_7.txt", 11)
+
+    def test_readme(self):
+        with open(README, encoding="utf-8") as file:
+            parts = file.read().split("```\n")[1::2]
+        text = "".join([part for part in parts if part.startswith(">>>")])
+        test = doctest.DocTestParser().get_doctest(text, {}, "README.md", README, 0)
+        self.assertEqual(doctest.DocTestRunner().run(test), (0, 13))
 
 
 if __name__ == "__main__":

@@ -1,6 +1,7 @@
 """Those rules of the language subset that a look at the files can tell."""
 
 import ast
+import builtins
 import os
 import unittest
 
@@ -20,6 +21,21 @@ BARRED = (
     ast.AsyncFunctionDef, ast.AsyncFor, ast.AsyncWith, ast.Await, ast.Import, ast.Div, ast.MatMult,
 )
 
+METHODS = set((
+    "append clear copy count endswith extend find get index insert isalnum isalpha isascii isdigit islower isspace "
+    "isupper items join keys ljust lower lstrip partition pop remove replace reverse rfind rjust rpartition rsplit "
+    "rstrip setdefault split splitlines startswith strip update upper values zfill bit_length"
+).split())
+
+BUILTINS = set((
+    "len range enumerate zip min max sum abs sorted reversed int str bool list tuple dict set isinstance ord repr any "
+    "all divmod type ValueError"
+).split())
+
+
+# An example that is run may leave a `_` there.
+PYTHONS_OWN = set(dir(builtins)) - {"_"}
+
 
 def files():
     return [name for name in sorted(os.listdir(PACKAGE)) if name != "__pycache__"]
@@ -32,6 +48,24 @@ def text_of(name):
 
 def nodes():
     return [(name, node) for name in files() for node in ast.walk(ast.parse(text_of(name)))]
+
+
+def functions():
+    return [(name, node) for name, node in nodes() if isinstance(node, (ast.FunctionDef, ast.Lambda))]
+
+
+def names_bound_in(node):
+    """The parameters and variables of a function, those of comprehensions and nested functions too."""
+    inner = [part for part in ast.walk(node)]
+    found = {part.arg for part in inner if isinstance(part, ast.arg)}
+    return found | {part.id for part in inner if isinstance(part, ast.Name) and isinstance(part.ctx, ast.Store)}
+
+
+def names_of_file(name):
+    """The imports and classes of a file."""
+    body = ast.parse(text_of(name)).body
+    found = {part.name for part in body if isinstance(part, ast.ClassDef)}
+    return found | {word.name for part in body if isinstance(part, ast.ImportFrom) for word in part.names}
 
 
 def own_imports():
@@ -112,6 +146,53 @@ class LanguageTest(unittest.TestCase):
             self.assertNotIsInstance(node, ast.GeneratorExp, name)
             if isinstance(node, ast.Constant) and isinstance(node.value, str):
                 self.assertNotIn("%", node.value, name)
+
+    def test_no_variable_is_called_as_a_class_an_import_or_a_builtin(self):
+        for name, node in functions():
+            bound = names_bound_in(node)
+            self.assertEqual(bound & names_of_file(name), set(), (name, node.lineno))
+            self.assertEqual(bound & PYTHONS_OWN, set(), (name, node.lineno))
+            if isinstance(node, ast.FunctionDef):
+                self.assertNotIn(node.name, PYTHONS_OWN, name)
+
+    def test_all_imports_are_used(self):
+        for name in files():
+            tree = ast.parse(text_of(name))
+            used = {node.id for node in ast.walk(tree) if isinstance(node, ast.Name)}
+            for node in tree.body:
+                if isinstance(node, ast.ImportFrom):
+                    self.assertLessEqual({part.name for part in node.names}, used, name)
+
+    def test_methods_and_builtins(self):
+        own = {node.name for _, node in functions() if isinstance(node, ast.FunctionDef)}
+        for name, node in nodes():
+            if isinstance(node, ast.Call) and isinstance(node.func, ast.Attribute):
+                self.assertIn(node.func.attr, METHODS | own, (name, node.lineno))
+            if isinstance(node, ast.Name) and node.id in PYTHONS_OWN:
+                self.assertIn(node.id, BUILTINS, (name, node.lineno))
+
+    def test_is_beside_none_or_a_kind(self):
+        for name, node in nodes():
+            if isinstance(node, ast.Compare) and isinstance(node.ops[0], (ast.Is, ast.IsNot)):
+                told = ast.unparse(node.comparators[0])
+                self.assertIn(told, ("None", "True", "False", "int", "str", "tuple"), (name, node.lineno))
+                if told in ("int", "str", "tuple"):
+                    self.assertTrue(ast.unparse(node.left).startswith("type("), (name, node.lineno))
+
+    def test_stars_stand_before_plain_names_in_targets(self):
+        for name, node in nodes():
+            if isinstance(node, ast.Starred) and isinstance(node.ctx, ast.Store):
+                self.assertIsInstance(node.value, ast.Name, (name, node.lineno))
+
+    def test_no_name_is_a_method_and_an_attribute(self):
+        methods, attributes = set(), set()
+        for _, node in nodes():
+            if isinstance(node, ast.ClassDef):
+                methods |= {part.name for part in node.body if isinstance(part, ast.FunctionDef)}
+            if isinstance(node, ast.Attribute) and isinstance(node.ctx, ast.Store):
+                attributes.add(node.attr)
+        self.assertEqual(methods & attributes, set())
+        self.assertEqual(attributes & METHODS, set())
 
     def test_powers_have_a_small_literal_exponent(self):
         for name, node in nodes():
