@@ -25,12 +25,24 @@ class ExamplesTest(unittest.TestCase):
     def test_matrices(self):
         self.check("section_7.txt", 11)
 
+    def test_pictures(self):
+        self.check("section_8.txt", 13)
+
+    def test_choirs(self):
+        self.check("section_9.txt", 13)
+
+    def test_needed(self):
+        self.check("section_10.txt", 9)
+
+    def test_late(self):
+        self.check("section_11.txt", 12)
+
     def test_readme(self):
         with open(README, encoding="utf-8") as file:
             parts = file.read().split("```\n")[1::2]
         text = "".join([part for part in parts if part.startswith(">>>")])
         test = doctest.DocTestParser().get_doctest(text, {}, "README.md", README, 0)
-        self.assertEqual(doctest.DocTestRunner().run(test), (0, 13))
+        self.assertEqual(doctest.DocTestRunner().run(test), (0, 20))
 
 
 if __name__ == "__main__":

@@ -21,6 +21,25 @@ FUNCTIONS = {
         "shows_kernel": "matrix value", "shows_solved": "matrix column value", "shows_stepped": "matrix value",
         "solved": "matrix column", "stepped": "matrix",
     },
+    "pictures": {
+        "ghosts": "array", "is_all_told": "array", "is_ghost": "array picture", "picture_of": "array records",
+        "shares": "array picture", "shows_ghosts": "array value", "shows_picture_of": "array records value",
+        "told": "array way",
+    },
+    "choirs": {
+        "choirs": "array", "gains": "array choir", "only_endless": "array records", "outcome": "array choir records",
+        "paper": "array records", "shows_choirs": "array value", "shows_paper": "array records value",
+    },
+    "needed": {
+        "is_enough": "array names", "least_choirs": "array", "least_enough": "array", "least_for": "array way",
+        "least_losses": "array", "least_losses_for": "array way", "lot_rank": "array names", "spare": "array",
+        "tells": "array names way", "word_of_ear": "array name",
+    },
+    "late": {
+        "all_lags": "array records late", "lags_of": "array records late", "put_back": "array records late lags",
+        "shows_why_not": "array records late lags value", "why_not": "array records late lags",
+        "word_of": "array records late name",
+    },
 }
 
 CLASSES = {"arrays": {"Array": "ears ways"}}
