@@ -13,9 +13,14 @@ def delays_at(ears, ways):
     return tuple([tuple([delay_of(way, place) for way in ways]) for _, place in ears])
 
 
+def clicks_at(place, ways):
+    """The tuple of the ROWS of clicks, later by the delays of all WAYS at this PLACE."""
+    return tuple([(delay_of(way, place), ((1, 1),)) for way in ways])
+
+
 def matrix_at(ears, ways):
-    """For each ear the tuple of the ROWS of clicks, later by the delays of all WAYS."""
-    return tuple([tuple([(delay, ((1, 1),)) for delay in line]) for line in delays_at(ears, ways)])
+    """For each ear the tuple of the clicks of all WAYS there."""
+    return tuple([clicks_at(place, ways) for _, place in ears])
 
 
 def heard_rows(ears, ways, picture):

@@ -55,9 +55,14 @@ def told_ways(ears, ways):
 
 def least_lots(names, has):
     """The ascending tuple of all least lots of these that have something, as all that are more do, too."""
+    return least_lots_up_to(names, len(names), has)
+
+
+def least_lots_up_to(names, most, has):
+    """Those least lots that are of so many at most."""
     names = list(names)
     found = []
-    for size in range(len(names) + 1):
+    for size in range(most + 1):
         for lot in combinations(names, size):
             if not any([is_part(least, lot) for least in found]) and has(lot):
                 found.append(lot)

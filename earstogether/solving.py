@@ -54,14 +54,17 @@ def sums_with(wholes, number, others, by):
 
 
 class Steps:
-    """A MATRIX brought to steps: tops, and the base of what comes to nothing."""
+    """A MATRIX brought to steps: tops, and the base of what comes to nothing.
 
-    def __init__(self, matrix):
+    found is what steps_of tells of its lines, where this is known already.
+    """
+
+    def __init__(self, matrix, found=None):
         told = [whole_rows(line) for line in matrix]
         self.many = len(matrix[0])
         self.bottoms = [bottom for bottom, _ in told]
         lines = [wholes for _, wholes in told]
-        tops, self.base = steps_of(lines, self.many)
+        tops, self.base = steps_of(lines, self.many) if found is None else found
         self.tops = [Top(number, column, lines) for number, column in tops]
 
     def base_rows(self):

@@ -1,4 +1,4 @@
-"""What holds across sections 5 to 11: guarantees (a) to (f), as far as they are built."""
+"""What holds across sections 5 to 11."""
 
 import random
 import unittest

@@ -37,12 +37,27 @@ class ExamplesTest(unittest.TestCase):
     def test_late(self):
         self.check("section_11.txt", 12)
 
+    def test_lying(self):
+        self.check("section_12.txt", 12)
+
+    def test_correlations(self):
+        self.check("section_13.txt", 9)
+
+    def test_keeping(self):
+        self.check("section_14.txt", 10)
+
+    def test_drawings(self):
+        self.check("section_15.txt", 4)
+
+    def test_bench_journals_desk(self):
+        self.check("section_16.txt", 6)
+
     def test_readme(self):
         with open(README, encoding="utf-8") as file:
             parts = file.read().split("```\n")[1::2]
         text = "".join([part for part in parts if part.startswith(">>>")])
         test = doctest.DocTestParser().get_doctest(text, {}, "README.md", README, 0)
-        self.assertEqual(doctest.DocTestRunner().run(test), (0, 20))
+        self.assertEqual(doctest.DocTestRunner().run(test), (0, 31))
 
 
 if __name__ == "__main__":

@@ -40,9 +40,46 @@ FUNCTIONS = {
         "shows_why_not": "array records late lags value", "why_not": "array records late lags",
         "word_of": "array records late name",
     },
+    "lying": {
+        "picture_but": "array records names", "safe": "array", "shows_picture_but": "array records names value",
+        "sole": "array records most", "stories": "array records most", "surely_lying": "array records most",
+        "surely_true": "array records most", "word_of_one": "array records most name",
+    },
+    "correlations": {
+        "all_alike": "row", "are_alike": "one other", "correlation": "one other", "form_of": "row",
+        "pairs_with": "first cross second", "rows_with": "row", "shared": "one other", "shows_shared": "one other value",
+    },
+    "drawings": {"bars": "row first many step", "signs": "rows first many"},
+    "journals": {"journal": "bench", "read_journal": "text"},
 }
 
-CLASSES = {"arrays": {"Array": "ears ways"}}
+CLASSES = {
+    "arrays": {"Array": "ears ways"}, "keeping": {"Station": "ways"}, "benches": {"Bench": "ways"}, "desk": {"Desk": "text"},
+}
+
+METHODS = {
+    "keeping Station": {
+        "put": "name place", "take": "name", "hear": "name first worths", "unhear": "name first last", "holes": "name",
+        "array": "", "picture": "", "ghosts": "", "copy": "",
+    },
+    "benches Bench": {
+        "station": "", "do": "line", "undo": "", "redo": "", "tried": "look keep", "keep": "", "copy": "", "__len__": "",
+    },
+    "desk Desk": {"say": "line"},
+}
+
+EARS, WAYS = (("a", (0,)),), ((1,), (2,))
+JOURNAL = "way 1\ndeeds"
+
+ATTRIBUTES = {
+    "arrays Array": ((EARS, WAYS), "ears ways names text"), "keeping Station": ((WAYS,), "ways ears ready records work"),
+    "benches Bench": ((WAYS,), "ways deeds"), "desk Desk": ((JOURNAL,), "bench"),
+}
+
+
+def kind_of(words):
+    file, name = words.split()
+    return getattr(importlib.import_module("earstogether." + file), name)
 
 
 class InterfaceTest(unittest.TestCase):
@@ -70,6 +107,29 @@ class InterfaceTest(unittest.TestCase):
                 self.assertEqual([part.name for part in told], parameters.split())
                 for part in told:
                     self.assertEqual((part.kind, part.default), (part.POSITIONAL_OR_KEYWORD, part.empty))
+
+    def test_methods_stand_in_the_class_itself(self):
+        for words, table in METHODS.items():
+            for name, parameters in table.items():
+                look = vars(kind_of(words))[name]
+                self.assertTrue(inspect.isfunction(look), name)
+                told = list(inspect.signature(look).parameters.values())
+                self.assertEqual([part.name for part in told], ["self", *parameters.split()])
+                for part in told:
+                    if part.name == "keep":
+                        self.assertEqual((part.kind, part.default), (part.KEYWORD_ONLY, False))
+                    else:
+                        self.assertEqual((part.kind, part.default), (part.POSITIONAL_OR_KEYWORD, part.empty))
+
+    def test_attributes_are_there_from_the_first(self):
+        for words, (arguments, names) in ATTRIBUTES.items():
+            thing = kind_of(words)(*arguments)
+            for name in names.split():
+                self.assertFalse(callable(getattr(thing, name)), (words, name))
+
+    def test_equality_stands_in_the_class_itself(self):
+        for words in ("arrays Array", "keeping Station", "benches Bench"):
+            self.assertIn("__eq__", vars(kind_of(words)))
 
 
 if __name__ == "__main__":
