@@ -172,7 +172,7 @@ class ShowsSharedTest(unittest.TestCase):
 
     def test_near_values(self):
         for u, v in (
-            (self.v, self.u), (self.u, turned_about(self.v)), (self.u, self.u), (self.one, ONE), (ONE, self.one),
+            (self.v, self.u), (self.u, turned_about(self.v)), (self.u, self.u), (self.one, ONE), (ONE, self.one), (self.other, ONE),
             (product_of(self.u, whole_row(0, 2)), self.v), (self.u, whole_row(0, 1, -2)), (self.u, whole_row(0, 1, 2, 1)),
             (NOTHING, self.v), (self.u, NOTHING), (NOTHING, NOTHING), (product_of(self.u, self.v), ONE),
         ):
